@@ -1,0 +1,1 @@
+"""Mostrows: how many rows stand in all of these tables."""
