@@ -51,3 +51,64 @@ def made_table(chance, names="abcdef", width=None, most=8, values=3):
 def made_tables(seed, number):
     chance = random.Random(seed)
     return [made_table(chance) for count in range(number)]
+
+
+def slow_columns(question):
+    return tuple(dict.fromkeys(column for name, columns in question for column in columns))
+
+
+def slow_is_answer(question, house, row):
+    values = row_as_dict(slow_columns(question), row)
+    return all(tuple(values[column] for column in columns) in rows for (name, columns), rows in zip(question, house))
+
+
+def slow_answers(question, house):
+    values = {value for rows in house for row in rows for value in row}
+    every = itertools.product(sorted(values), repeat=len(slow_columns(question)))
+    return tuple(row for row in every if slow_is_answer(question, house, row))
+
+
+def slow_values(columns, rows, column, row):
+    return {seen[columns.index(column)] for seen in rows
+            if all(seen[columns.index(gone)] == row[gone] for gone in columns if gone in row)}
+
+
+def slow_by_columns(question, house, order):
+    there = [{}] if all(house) else []
+    levels = []
+    looks = 0
+    for column in order:
+        behind = []
+        for row in there:
+            lists = [slow_values(columns, rows, column, row)
+                     for (name, columns), rows in zip(question, house) if column in columns]
+            looks += min(len(one) for one in lists) * len(lists)
+            behind += [{**row, column: value} for value in set.intersection(*lists)]
+        there = behind
+        levels.append(len(there))
+    told = sorted(tuple(row[column] for column in slow_columns(question)) for row in there)
+    return (tuple(told), tuple(levels), looks)
+
+
+def made_question(chance):
+    names = chance.sample(["t", "u", "v", "a", "b", "table"], chance.randint(1, 6))
+    columns = "abcdef"[:chance.randint(2, 6)]
+    return tuple((name, tuple(chance.sample(columns, chance.randint(1, min(4, len(columns)))))) for name in names)
+
+
+def made_house(chance, question):
+    left = 3000
+    house = []
+    for name, columns in question:
+        rows = made_rows(chance, len(columns), min(left, 12), 3)
+        while not rows and chance.random() < 0.95:
+            rows = made_rows(chance, len(columns), min(left, 12), 3)
+        left = left // max(1, len(rows))
+        house.append(rows)
+    return tuple(house)
+
+
+def made_houses(seed, number):
+    chance = random.Random(seed)
+    questions = [made_question(chance) for count in range(number)]
+    return [(question, made_house(chance, question)) for question in questions]
