@@ -74,7 +74,12 @@ class Together(unittest.TestCase):
         self.assertEqual(together((("a", "b"), ()), ((), ("b", "a"))), ("same",))
         self.assertEqual(together(BLANK, ((),)), ("same",))
         self.assertEqual(together(NOTHING, ((), ())), ("same",))
+
+    def test_by_no_rows_of_columns(self):
+        # Joined, no tables at all make the row without values: else there would be fewer rows than BLANK has.
+        self.assertEqual(apart(BLANK, ()), [])
         self.assertEqual(together(BLANK, ()), ("same",))
+        self.assertEqual(together(NOTHING, ()), ("more", ()))
 
     def test_many(self):
         chance = random.Random(23)
