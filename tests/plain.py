@@ -112,3 +112,57 @@ def made_houses(seed, number):
     chance = random.Random(seed)
     questions = [made_question(chance) for count in range(number)]
     return [(question, made_house(chance, question)) for question in questions]
+
+
+def all_trees(names):
+    if len(names) == 1:
+        return [names[0]]
+    found = []
+    for size in range(1, len(names)):
+        for one in itertools.combinations(names, size):
+            other = tuple(name for name in names if name not in one)
+            found += list(itertools.product(all_trees(one), all_trees(other)))
+    return found
+
+
+def made_tree(chance, names):
+    trees = chance.sample(list(names), len(names))
+    while len(trees) > 1:
+        at = chance.randrange(len(trees) - 1)
+        trees[at:at + 2] = [(trees[at], trees[at + 1])]
+    return trees[0]
+
+
+def names_in(tree):
+    return [tree] if isinstance(tree, str) else names_in(tree[0]) + names_in(tree[1])
+
+
+def pairs_in(tree):
+    return [] if isinstance(tree, str) else pairs_in(tree[0]) + pairs_in(tree[1]) + [tree]
+
+
+def slow_part(question, things, names):
+    there = [at for at, (name, columns) in enumerate(question) if name in names]
+    return (tuple(question[at] for at in there), tuple(things[at] for at in there))
+
+
+def slow_by_tree(question, house, tree):
+    parts = [slow_part(question, house, names_in(pair)) for pair in pairs_in(tree)]
+    return (slow_answers(question, house), tuple(len(slow_answers(*part)) for part in parts))
+
+
+def made_exponents(chance, question):
+    return tuple(chance.choice((0, 1, 9, chance.randint(0, 9))) for table in question)
+
+
+def slow_is_cover(question, shares):
+    return all(sum(number for (name, columns), number in zip(question, shares[1]) if column in columns) >= shares[0]
+               for column in slow_columns(question))
+
+
+def made_cover(chance, question):
+    parts = chance.randint(1, 5)
+    numbers = [chance.randint(0, parts) for table in question]
+    while not slow_is_cover(question, (parts, tuple(numbers))):
+        numbers[chance.randrange(len(numbers))] += 1
+    return (parts, tuple(numbers))

@@ -144,6 +144,13 @@ class Forms(unittest.TestCase):
             self.assertIsInstance(node.value, ast.Name, path)
             self.assertIsNone(node.format_spec, path)
 
+    def test_powers_have_a_written_exponent(self):
+        for path, node in found((ast.BinOp, ast.AugAssign)):
+            if isinstance(node.op, ast.Pow):
+                exponent = node.right if isinstance(node, ast.BinOp) else node.value
+                self.assertIsInstance(exponent, ast.Constant, (path, node.lineno))
+                self.assertTrue(0 <= exponent.value <= 64, (path, node.lineno))
+
 
 class Names(unittest.TestCase):
     def test_bound_names(self):
