@@ -14,6 +14,10 @@ def lowest(top, bottom):
     return (top // divisor, bottom // divisor)
 
 
+def is_less(one, other):
+    return one[0] * other[1] < other[0] * one[1]
+
+
 def in_fewest_parts(parts, numbers):
     divisor = parts
     for number in numbers:

@@ -1,7 +1,7 @@
 """Houses: rows for the tables of a question."""
 
 from mostrows.errors import BadHouse
-from mostrows.questions import columns_of, names_of
+from mostrows.questions import belonging, columns_of
 from mostrows.tables import all_joined, first_wrong_row, picked, places_of
 
 FIT = 3000
@@ -42,4 +42,4 @@ def answers(question, house):
 
 
 def house_part(question, house, tables):
-    return tuple([rows for name, rows in zip(names_of(question), house) if name in tables])
+    return belonging(question, house, tables)

@@ -44,3 +44,7 @@ def having(question, column):
 
 def part(question, tables):
     return tuple([pair for pair in question if pair[0] in tables])
+
+
+def belonging(question, things, tables):
+    return tuple([thing for pair, thing in zip(question, things) if pair[0] in tables])

@@ -15,7 +15,8 @@ LINKS = (((1,), (2,), (3,)), ((1, 5), (1, 6), (2, 5), (4, 7)), ((5, 0), (5, 1), 
 
 class OneTable(unittest.TestCase):
     def test_its_rows_and_no_sizes(self):
-        self.assertEqual(by_tree((("t", ("b", "a")),), (((0, 3), (0, 4), (2, 1)),), "t"), (((0, 3), (0, 4), (2, 1)), ()))
+        rows = ((0, 3), (0, 4), (2, 1))
+        self.assertEqual(by_tree((("t", ("b", "a")),), (rows,), "t"), (rows, ()))
         self.assertEqual(by_tree((("table", ("table",)),), (((7,),),), "table"), (((7,),), ()))
 
     def test_without_rows(self):
