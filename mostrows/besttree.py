@@ -1,16 +1,9 @@
 """The tree by which the greatest table that may stand between is least."""
 
 from mostrows.fractions import is_less
+from mostrows.parts import all_parts
 from mostrows.questions import names_of
 from mostrows.worst import price_of, worst
-
-
-def all_parts(names):
-    # Those within another one stand ahead of it.
-    parts = [()]
-    for name in names:
-        parts = parts + [ahead + (name,) for ahead in parts]
-    return parts
 
 
 def halves_of(names):

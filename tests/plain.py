@@ -166,3 +166,101 @@ def made_cover(chance, question):
     while not slow_is_cover(question, (parts, tuple(numbers))):
         numbers[chance.randrange(len(numbers))] += 1
     return (parts, tuple(numbers))
+
+
+def ring_of_pairs(columns):
+    return tuple((name, (one, other)) for name, one, other in zip("tuvwxy", columns, columns[1:] + columns[:1]))
+
+
+def ring_of_all_but_one(columns):
+    return tuple((name, tuple(column for column in columns if column != lacking))
+                 for name, lacking in zip("tuvwxy", columns))
+
+
+def slow_widest(question, columns):
+    sets = {frozenset(columns) & frozenset(own) for name, own in question}
+    return {one for one in sets if not any(one < other for other in sets)}
+
+
+def slow_is_ring(question, columns):
+    if len(set(columns)) != len(columns) or not set(columns) <= set(slow_columns(question)):
+        return False
+    widest = slow_widest(question, columns)
+    pairs = {frozenset((columns[at - 1], columns[at])) for at in range(len(columns))}
+    all_but_one = {frozenset(columns) - {column} for column in columns}
+    return len(columns) >= 4 and widest == pairs or len(columns) >= 3 and widest == all_but_one
+
+
+def slow_has_ring(question):
+    every = slow_columns(question)
+    return any(slow_is_ring(question, columns)
+               for size in range(3, len(every) + 1) for columns in itertools.permutations(every, size))
+
+
+def slow_ears(left):
+    """All that may be taken off first, each with each of its holders."""
+    found = []
+    for name, columns in left.items():
+        others = {other: held for other, held in left.items() if other != name}
+        shared = {column for column in columns if any(column in held for held in others.values())}
+        found += [(name, other) for other, held in others.items() if shared <= set(held)]
+    return found if len(left) > 1 else [(name, None) for name in left]
+
+
+def slow_ears_show(question, some):
+    left = dict(question)
+    for name, holder in some:
+        if (name, holder) not in slow_ears(left):
+            return False
+        left.pop(name)
+    return not left
+
+
+def all_ears(left):
+    """All lists by which all tables can be taken off; none where they can't."""
+    if not left:
+        return [[]]
+    return [[ear] + behind for ear in slow_ears(left)
+            for behind in all_ears({name: left[name] for name in left if name != ear[0]})]
+
+
+def made_ears(chance, question):
+    """A list of ears, or None where tables are left that can't be taken off."""
+    left = dict(question)
+    some = []
+    while left:
+        found = slow_ears(left)
+        if not found:
+            return None
+        some.append(chance.choice(found))
+        left.pop(some[-1][0])
+    return some
+
+
+def made_eared(chance):
+    question = made_question(chance)
+    while made_ears(chance, question) is None:
+        question = made_question(chance)
+    return question
+
+
+def made_ringed(chance):
+    question = made_question(chance)
+    while made_ears(chance, question) is not None:
+        question = made_question(chance)
+    return question
+
+
+def slow_thinned_house(question, house):
+    told = (slow_columns(question), slow_answers(question, house))
+    return tuple(tuple(row for row in rows if row in slow_cut(told, columns)[1])
+                 for (name, columns), rows in zip(question, house))
+
+
+def has_answer(question, house, values):
+    """Whether the values of some columns stand in an answer; found without making the answers."""
+    if not question:
+        return True
+    columns = question[0][1]
+    return any(has_answer(question[1:], house[1:], {**values, **row_as_dict(columns, row)}) for row in house[0]
+               if all(values.get(column, value) == value for column, value in zip(columns, row)))
