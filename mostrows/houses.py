@@ -1,7 +1,7 @@
 """Houses: rows for the tables of a question."""
 
 from mostrows.errors import BadHouse
-from mostrows.questions import belonging, columns_of
+from mostrows.questions import belonging, columns_of, names_of
 from mostrows.tables import all_joined, first_wrong_row, picked, places_of
 
 FIT = 3000
@@ -18,6 +18,10 @@ def look_house(question, house):
 
 def tables_of(question, house):
     return [(pair[1], rows) for pair, rows in zip(question, house)]
+
+
+def named_tables(question, house):
+    return dict(zip(names_of(question), tables_of(question, house)))
 
 
 def is_fit(house):

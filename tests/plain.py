@@ -264,3 +264,37 @@ def has_answer(question, house, values):
     columns = question[0][1]
     return any(has_answer(question[1:], house[1:], {**values, **row_as_dict(columns, row)}) for row in house[0]
                if all(values.get(column, value) == value for column, value in zip(columns, row)))
+
+
+def slow_through(question, house):
+    told = [row_as_dict(slow_columns(question), row) for row in slow_answers(question, house)]
+    return tuple(tuple(sum(tuple(values[column] for column in columns) == row for values in told) for row in rows)
+                 for (name, columns), rows in zip(question, house))
+
+
+def column_apart(number, rows=40):
+    """Tables of one column each, all unlike, and a house of so many rows each."""
+    question = tuple((name, (name,)) for name in "fbdace"[:number])
+    return (question, tuple(tuple((value * (at + 2) + at,) for value in range(rows)) for at in range(number)))
+
+
+def made_star(chance, number, rows=40, hubs=5):
+    """Tables that all share the column a, with rows for so many of its values; answers are easily made apart."""
+    question = tuple((name, ("a", column)) for name, column in zip("tuvwx", "bcdef"[:number]))
+    every = [(hub, value) for hub in range(hubs) for value in range(2 * rows)]
+    return (question, tuple(tuple(sorted(chance.sample(every, rows))) for table in question))
+
+
+def star_answers(house):
+    hubs = sorted({hub for rows in house for hub, value in rows})
+    ends = [[[value for hub, value in rows if hub == one] for rows in house] for one in hubs]
+    return [(one,) + row for one, lists in zip(hubs, ends) for row in itertools.product(*lists)]
+
+
+ALL_RINGS = (tuple(ring_of_pairs("abcdef"[:size]) for size in (3, 4, 5, 6))
+             + tuple(ring_of_all_but_one("abcdef"[:size]) for size in (3, 4, 5))
+             + (ring_of_pairs("abc") + (("w", ("d", "a")), ("x", ("e",))),))
+
+
+def house_of_noughts(question):
+    return tuple(((0,) * len(columns),) for name, columns in question)
